@@ -10,25 +10,13 @@ import (
 	"testing"
 
 	"tallystick/api"
+	"tallystick/sample"
 )
 
-// dice has numbers that are the same in every run.
-type dice uint32
-
-func (d *dice) next() int {
-	*d = *d*1664525 + 1013904223
-	return int(*d >> 8)
-}
-
-func (d *dice) below(n int) int { return d.next() % n }
-
+// text is n bytes, which are the same in every run.
 func text(n int) []byte {
-	d := dice(n + 5)
-	b := make([]byte, n)
-	for i := range b {
-		b[i] = byte(d.next())
-	}
-	return b
+	d := sample.Dice(n + 5)
+	return d.Text(n)
 }
 
 // sum is the first four bytes of the standard's sum of the sum.
@@ -348,23 +336,23 @@ func TestSum(t *testing.T) {
 
 // P8.2 and P8.3: what is laid is made of it again.
 func TestEncodedIsMade(t *testing.T) {
-	d := dice(3)
+	d := sample.Dice(3)
 	for range 200 {
 		var list []Frame
 		var row []byte
-		for range d.below(6) {
-			word := make([]byte, 1+d.below(12))
+		for range d.Below(6) {
+			word := make([]byte, 1+d.Below(12))
 			for i := range word {
-				word[i] = byte('a' + d.below(26))
+				word[i] = byte('a' + d.Below(26))
 			}
-			x := Frame{string(word), text(d.below(100))}
+			x := Frame{string(word), text(d.Below(100))}
 			b, e := Encode(x)
 			if e != api.OK {
 				t.Fatalf("Encode of %q: %v", word, e)
 			}
 			list, row = append(list, x), append(row, b...)
 		}
-		f, got := feed(row, 1+d.below(60), d.below(60))
+		f, got := feed(row, 1+d.Below(60), d.Below(60))
 		wantFrames(t, "what is laid", got, list...)
 		wantState(t, "what is laid", f, 0, api.OK)
 	}
@@ -400,20 +388,20 @@ func read(b []byte) (list []Frame, held int, e api.Errno) {
 
 // P8.3 and P1: any bytes, in any pieces.
 func TestAnyBytes(t *testing.T) {
-	d := dice(4)
+	d := sample.Dice(4)
 	seen := map[api.Errno]int{}
 	for range 4000 {
 		var row []byte
-		for range 1 + d.below(4) {
-			row = append(row, framed([]string{"a", "ping", "abcdefghijkl"}[d.below(3)], text(d.below(30)))...)
+		for range 1 + d.Below(4) {
+			row = append(row, framed([]string{"a", "ping", "abcdefghijkl"}[d.Below(3)], text(d.Below(30)))...)
 		}
-		for range d.below(3) {
-			row[d.below(len(row))] ^= 1 << d.below(8)
+		for range d.Below(3) {
+			row[d.Below(len(row))] ^= 1 << d.Below(8)
 		}
-		row = row[:len(row)-d.below(2)*d.below(len(row))]
+		row = row[:len(row)-d.Below(2)*d.Below(len(row))]
 		want, held, e := read(row)
 		seen[e]++
-		f, got := feed(row, 1+d.below(40), d.below(40), d.below(10))
+		f, got := feed(row, 1+d.Below(40), d.Below(40), d.Below(10))
 		if !slices.EqualFunc(got, want, same) || f.Held() != held || f.Err() != e {
 			t.Fatalf("%x: %q, %d held, %v, want %q, %d, %v", row, got, f.Held(), f.Err(), want, held, e)
 		}

@@ -12,81 +12,32 @@ import (
 
 	"tallystick/api"
 	"tallystick/frame"
+	"tallystick/sample"
 )
 
-// dice has numbers that are the same in every run.
-type dice uint32
-
-func (d *dice) next() int {
-	*d = *d*1664525 + 1013904223
-	return int(*d >> 8)
-}
-
-func (d *dice) below(n int) int { return d.next() % n }
-
-func (d *dice) text(n int) []byte {
-	b := make([]byte, n)
-	for i := range b {
-		b[i] = byte(d.next())
-	}
-	return b
-}
-
-func (d *dice) id() api.ID { return api.ID(d.text(32)) }
-
-func (d *dice) ids(n int) []api.ID {
-	var list []api.ID
-	for range n {
-		list = append(list, d.id())
-	}
-	return list
-}
-
-func (d *dice) makeHeader() api.Header {
-	return api.Header{Version: uint32(d.next()), Prev: d.id(), Root: d.id(), Time: uint32(d.next()), Bits: uint32(d.next()), Nonce: uint32(d.next())}
-}
-
-func (d *dice) headers(n int) []api.Header {
-	var list []api.Header
-	for range n {
-		list = append(list, d.makeHeader())
-	}
-	return list
-}
-
-// makeBlock is a block of so many transactions, each of an input with a key of so many bytes and an output.
-func (d *dice) makeBlock(txs, key int) api.Block {
-	b := api.Block{Header: d.makeHeader()}
-	for range txs {
-		in := api.In{Point: api.Point{Tx: d.id(), Index: uint32(d.next())}, Key: d.text(key)}
-		b.Txs = append(b.Txs, api.Tx{Ins: []api.In{in}, Outs: []api.Out{{Amount: int64(d.next()), Lock: d.id()}}})
-	}
-	return b
-}
-
 // full is a right block of so many bytes, some 8000.
-func (d *dice) full(t *testing.T, size int) api.Block {
+func full(t *testing.T, d *sample.Dice, size int) api.Block {
 	t.Helper()
-	b := d.makeBlock(32, 60)
+	b := d.Block(32, 60)
 	for i := range b.Txs {
-		b.Txs[i].Outs = append(b.Txs[i].Outs, api.Out{Amount: 5, Lock: d.id()}, api.Out{Lock: d.id()})
+		b.Txs[i].Outs = append(b.Txs[i].Outs, api.Out{Amount: 5, Lock: d.ID()}, api.Out{Lock: d.ID()})
 	}
 	b.Txs[31].Ins[0].Key = nil
-	missing := size - len(laidBlock(b))
+	missing := size - len(sample.BlockBytes(b))
 	for i := range b.Txs {
 		n := min(max(missing, 0), 100-len(b.Txs[i].Ins[0].Key))
-		b.Txs[i].Ins[0].Key = append(b.Txs[i].Ins[0].Key, d.text(n)...)
+		b.Txs[i].Ins[0].Key = append(b.Txs[i].Ins[0].Key, d.Text(n)...)
 		missing -= n
 	}
-	if len(laidBlock(b)) != size {
-		t.Fatalf("the sample has %d bytes, not %d", len(laidBlock(b)), size)
+	if len(sample.BlockBytes(b)) != size {
+		t.Fatalf("the sample has %d bytes, not %d", len(sample.BlockBytes(b)), size)
 	}
 	return b
 }
 
 // everything is a message of a kind which has of all there is, whether its kind has that or not.
-func (d *dice) everything(kind int) Msg {
-	return Msg{Kind: kind, Nonce: uint64(d.next())<<40 | uint64(d.next()), Height: uint32(d.next())<<8 | 3, Names: d.ids(3), Stop: d.id(), Heads: d.headers(2), Block: d.makeBlock(2, 3)}
+func everything(d *sample.Dice, kind int) Msg {
+	return Msg{Kind: kind, Nonce: uint64(d.Next())<<40 | uint64(d.Next()), Height: uint32(d.Next())<<8 | 3, Names: d.IDs(3), Stop: d.ID(), Heads: d.Headers(2), Block: d.Block(2, 3)}
 }
 
 // of is what a message's kind has of it.
@@ -110,48 +61,8 @@ func of(m Msg) Msg {
 
 var theWords = []string{"", "version", "verack", "getheaders", "headers", "inv", "getdata", "block", "notfound", "ping", "pong"}
 
-// counted is the shortest form of a number.
-func counted(n int) []byte {
-	switch {
-	case n <= 252:
-		return []byte{byte(n)}
-	case n <= 65535:
-		return binary.LittleEndian.AppendUint16([]byte{253}, uint16(n))
-	}
-	return binary.LittleEndian.AppendUint32([]byte{254}, uint32(n))
-}
-
-func laidHeader(h api.Header) []byte {
-	b := binary.LittleEndian.AppendUint32(nil, h.Version)
-	b = append(b, h.Prev[:]...)
-	b = append(b, h.Root[:]...)
-	for _, n := range []uint32{h.Time, h.Bits, h.Nonce} {
-		b = binary.LittleEndian.AppendUint32(b, n)
-	}
-	return b
-}
-
-func laidBlock(block api.Block) []byte {
-	b := append(laidHeader(block.Header), counted(len(block.Txs))...)
-	for _, t := range block.Txs {
-		b = append(b, counted(len(t.Ins))...)
-		for _, in := range t.Ins {
-			b = append(b, in.Point.Tx[:]...)
-			b = binary.LittleEndian.AppendUint32(b, in.Point.Index)
-			b = append(b, counted(len(in.Key))...)
-			b = append(b, in.Key...)
-		}
-		b = append(b, counted(len(t.Outs))...)
-		for _, out := range t.Outs {
-			b = binary.LittleEndian.AppendUint64(b, uint64(out.Amount))
-			b = append(b, out.Lock[:]...)
-		}
-	}
-	return b
-}
-
 func laidNames(list []api.ID) []byte {
-	b := counted(len(list))
+	b := sample.Count(len(list))
 	for _, id := range list {
 		b = append(b, id[:]...)
 	}
@@ -169,13 +80,13 @@ func laid(m Msg) []byte {
 	case "inv", "getdata", "notfound":
 		return laidNames(m.Names)
 	case "headers":
-		b := counted(len(m.Heads))
+		b := sample.Count(len(m.Heads))
 		for _, h := range m.Heads {
-			b = append(b, laidHeader(h)...)
+			b = append(b, sample.HeaderBytes(h)...)
 		}
 		return b
 	case "block":
-		return laidBlock(m.Block)
+		return sample.BlockBytes(m.Block)
 	case "ping", "pong":
 		return binary.LittleEndian.AppendUint64(nil, m.Nonce)
 	}
@@ -195,7 +106,7 @@ func whole(m Msg) []byte { return framed(theWords[m.Kind], laid(m)) }
 // same: whether two are the same, an empty list being no other than none.
 func same(a, b Msg) bool {
 	return a.Kind == b.Kind && a.Nonce == b.Nonce && a.Height == b.Height && slices.Equal(a.Names, b.Names) && a.Stop == b.Stop &&
-		slices.Equal(a.Heads, b.Heads) && bytes.Equal(laidBlock(a.Block), laidBlock(b.Block))
+		slices.Equal(a.Heads, b.Heads) && bytes.Equal(sample.BlockBytes(a.Block), sample.BlockBytes(b.Block))
 }
 
 func encoded(t *testing.T, what string, m Msg) {
@@ -284,21 +195,21 @@ func TestEncodeOfTheDocument(t *testing.T) {
 
 // P9.2: what a kind doesn't have isn't written, how much it ever is.
 func TestEncodeOfWhatAKindHas(t *testing.T) {
-	d := dice(1)
+	d := sample.Dice(1)
 	for kind := 1; kind <= 10; kind++ {
-		encoded(t, theWords[kind], d.everything(kind))
+		encoded(t, theWords[kind], everything(&d, kind))
 		encoded(t, theWords[kind]+" of nothing", Msg{Kind: kind})
 	}
 	for kind, has := range map[int]string{1: "", 2: "", 3: "names", 4: "heads", 5: "names", 6: "names", 7: "block", 8: "names", 9: "", 10: ""} {
-		m := d.everything(kind)
+		m := everything(&d, kind)
 		if has != "names" {
-			m.Names = d.ids(200)
+			m.Names = d.IDs(200)
 		}
 		if has != "heads" {
-			m.Heads = d.headers(200)
+			m.Heads = d.Headers(200)
 		}
 		if has != "block" {
-			m.Block = d.makeBlock(200, 200)
+			m.Block = d.Block(200, 200)
 		}
 		encoded(t, theWords[kind]+" beside too much", m)
 	}
@@ -311,18 +222,18 @@ func TestEncodeOfWhatAKindHas(t *testing.T) {
 
 // P9.2: the counts' edges.
 func TestEncodeOfMany(t *testing.T) {
-	d := dice(2)
+	d := sample.Dice(2)
 	for _, n := range []int{0, 1, 31, 32, 33, 63, 64, 65, 252, 253, 65536} {
-		ids := d.ids(n)
+		ids := d.IDs(n)
 		for kind, most := range map[int]int{GetHeaders: 32, Inv: 64, GetData: 64, NotFound: 64} {
-			m := Msg{Kind: kind, Names: ids, Stop: d.id()}
+			m := Msg{Kind: kind, Names: ids, Stop: d.ID()}
 			if n <= most {
 				encoded(t, theWords[kind], m)
 			} else {
 				notEncoded(t, "too many names", m, api.ErrLong)
 			}
 		}
-		m := Msg{Kind: Headers, Heads: d.headers(n)}
+		m := Msg{Kind: Headers, Heads: d.Headers(n)}
 		if n <= 32 {
 			encoded(t, "headers", m)
 		} else {
@@ -333,37 +244,37 @@ func TestEncodeOfMany(t *testing.T) {
 
 // P9.2: a block's bytes may be 8192, whatever its parts are.
 func TestEncodeOfBlocks(t *testing.T) {
-	d := dice(3)
+	d := sample.Dice(3)
 	for _, n := range []int{8000, 8191, 8192} {
-		encoded(t, "a block that may be", Msg{Kind: Block, Block: d.full(t, n)})
+		encoded(t, "a block that may be", Msg{Kind: Block, Block: full(t, &d, n)})
 	}
 	for _, n := range []int{8193, 8194} {
-		notEncoded(t, "a block that is too long", Msg{Kind: Block, Block: d.full(t, n)}, api.ErrLong)
+		notEncoded(t, "a block that is too long", Msg{Kind: Block, Block: full(t, &d, n)}, api.ErrLong)
 	}
-	notEncoded(t, "a block that is no frame's data", Msg{Kind: Block, Block: d.makeBlock(300, 100)}, api.ErrLong)
+	notEncoded(t, "a block that is no frame's data", Msg{Kind: Block, Block: d.Block(300, 100)}, api.ErrLong)
 	many := api.Block{Txs: make([]api.Tx, 33)}
 	encoded(t, "a block of too many", Msg{Kind: Block, Block: many})
-	notDecoded(t, "a block of too many", "block", laidBlock(many), api.ErrLong)
-	encoded(t, "a block of too long a key", Msg{Kind: Block, Block: d.makeBlock(1, 101)})
+	notDecoded(t, "a block of too many", "block", sample.BlockBytes(many), api.ErrLong)
+	encoded(t, "a block of too long a key", Msg{Kind: Block, Block: d.Block(1, 101)})
 }
 
 // P9.2: that there is no such kind is told first.
 func TestEncodeOfNoKind(t *testing.T) {
-	d := dice(4)
+	d := sample.Dice(4)
 	for _, kind := range []int{0, -1, 11, 12, 255, 256, 257, math.MinInt, math.MaxInt} {
-		m := d.everything(kind)
+		m := everything(&d, kind)
 		notEncoded(t, "no kind", m, api.ErrKind)
-		m.Names, m.Heads, m.Block = d.ids(100), d.headers(100), d.makeBlock(100, 100)
+		m.Names, m.Heads, m.Block = d.IDs(100), d.Headers(100), d.Block(100, 100)
 		notEncoded(t, "too much of no kind", m, api.ErrKind)
 	}
 }
 
 // P9.3: what the kind doesn't have is zero.
 func TestDecode(t *testing.T) {
-	d := dice(5)
+	d := sample.Dice(5)
 	for kind := 1; kind <= 10; kind++ {
 		for range 20 {
-			m := d.everything(kind)
+			m := everything(&d, kind)
 			decoded(t, theWords[kind], theWords[kind], laid(m), of(m))
 		}
 		decoded(t, theWords[kind]+" of nothing", theWords[kind], laid(Msg{Kind: kind}), Msg{Kind: kind})
@@ -391,18 +302,18 @@ func TestDecodeOfNoKind(t *testing.T) {
 
 // P9.3: the counts' edges; that they are too great is told ahead of what is missing.
 func TestDecodeOfMany(t *testing.T) {
-	d := dice(6)
+	d := sample.Dice(6)
 	for _, n := range []int{0, 1, 31, 32, 33, 63, 64, 65, 252, 253, 65536} {
 		for word, most := range map[string]int{"getheaders": 32, "inv": 64, "getdata": 64, "notfound": 64, "headers": 32} {
-			m := Msg{Kind: Kind(word), Names: d.ids(n), Stop: d.id(), Heads: d.headers(n)}
+			m := Msg{Kind: Kind(word), Names: d.IDs(n), Stop: d.ID(), Heads: d.Headers(n)}
 			if n <= most {
 				decoded(t, word, word, laid(m), of(m))
 			} else {
 				notDecoded(t, "too many of "+word, word, laid(m), api.ErrLong)
-				notDecoded(t, "too many that aren't there of "+word, word, counted(n), api.ErrLong)
+				notDecoded(t, "too many that aren't there of "+word, word, sample.Count(n), api.ErrLong)
 			}
 			if 0 < n && n <= most {
-				notDecoded(t, "what isn't there of "+word, word, counted(n), api.ErrShort)
+				notDecoded(t, "what isn't there of "+word, word, sample.Count(n), api.ErrShort)
 			}
 		}
 	}
@@ -417,19 +328,19 @@ func TestDecodeOfMany(t *testing.T) {
 
 // P9.3: data that end too soon, or too late.
 func TestDecodeOfOtherLengths(t *testing.T) {
-	d := dice(7)
+	d := sample.Dice(7)
 	for kind := 1; kind <= 10; kind++ {
-		for _, m := range []Msg{d.everything(kind), {Kind: kind}} {
+		for _, m := range []Msg{everything(&d, kind), {Kind: kind}} {
 			b := laid(m)
 			for cut := range b {
 				notDecoded(t, "a cut "+theWords[kind], theWords[kind], b[:cut], api.ErrShort)
 			}
-			for _, behind := range [][]byte{{0}, {1}, {255}, make([]byte, 32), d.text(80)} {
+			for _, behind := range [][]byte{{0}, {1}, {255}, make([]byte, 32), d.Text(80)} {
 				notDecoded(t, "too long a "+theWords[kind], theWords[kind], slices.Concat(b, behind), api.ErrForm)
 			}
 		}
 		if kind != Block {
-			m := d.everything(kind)
+			m := everything(&d, kind)
 			notDecoded(t, "much behind a "+theWords[kind], theWords[kind], append(laid(m), make([]byte, 20000)...), api.ErrForm)
 		}
 	}
@@ -437,9 +348,9 @@ func TestDecodeOfOtherLengths(t *testing.T) {
 
 // P9.3: that bytes are missing is told ahead of a wrong number.
 func TestDecodeOfOtherVersions(t *testing.T) {
-	d := dice(8)
+	d := sample.Dice(8)
 	for _, number := range []uint32{0, 2, 3, 257, 1 << 8, 1 << 24, 1<<16 | 1, 1<<24 | 1, math.MaxUint32} {
-		b := append(binary.LittleEndian.AppendUint32(nil, number), d.text(12)...)
+		b := append(binary.LittleEndian.AppendUint32(nil, number), d.Text(12)...)
 		notDecoded(t, "another version", "version", b, api.ErrForm)
 		notDecoded(t, "too long another version", "version", append(b, 0), api.ErrForm)
 		for cut := range b {
@@ -450,36 +361,36 @@ func TestDecodeOfOtherVersions(t *testing.T) {
 
 // P9.3: of a block layer 7's errors.
 func TestDecodeOfBlocks(t *testing.T) {
-	d := dice(9)
+	d := sample.Dice(9)
 	for _, n := range []int{8000, 8191, 8192} {
-		b := d.full(t, n)
-		decoded(t, "a long block", "block", laidBlock(b), Msg{Kind: Block, Block: b})
+		b := full(t, &d, n)
+		decoded(t, "a long block", "block", sample.BlockBytes(b), Msg{Kind: Block, Block: b})
 	}
-	notDecoded(t, "a block that is too long", "block", laidBlock(d.full(t, 8193)), api.ErrLong)
+	notDecoded(t, "a block that is too long", "block", sample.BlockBytes(full(t, &d, 8193)), api.ErrLong)
 	notDecoded(t, "too many bytes", "block", make([]byte, 8193), api.ErrLong)
 	notDecoded(t, "many bytes", "block", make([]byte, 8192), api.ErrForm)
-	notDecoded(t, "33 transactions", "block", laidBlock(d.makeBlock(33, 0)), api.ErrLong)
-	notDecoded(t, "a key that is too long", "block", laidBlock(d.makeBlock(1, 101)), api.ErrLong)
-	notDecoded(t, "a header alone", "block", laidHeader(d.makeHeader()), api.ErrShort)
+	notDecoded(t, "33 transactions", "block", sample.BlockBytes(d.Block(33, 0)), api.ErrLong)
+	notDecoded(t, "a key that is too long", "block", sample.BlockBytes(d.Block(1, 101)), api.ErrLong)
+	notDecoded(t, "a header alone", "block", sample.HeaderBytes(d.Header()), api.ErrShort)
 	notDecoded(t, "nothing", "block", nil, api.ErrShort)
 }
 
 // P9.3 and P1: any data are those of the message that they are, or refused.
 func TestDecodeOfAnyBytes(t *testing.T) {
-	d := dice(10)
+	d := sample.Dice(10)
 	ok := 0
 	for range 20000 {
-		kind := 1 + d.below(10)
-		m := d.everything(kind)
-		m.Names, m.Heads = m.Names[:d.below(4)], m.Heads[:d.below(3)]
+		kind := 1 + d.Below(10)
+		m := everything(&d, kind)
+		m.Names, m.Heads = m.Names[:d.Below(4)], m.Heads[:d.Below(3)]
 		b := laid(m)
-		for range d.below(3) {
+		for range d.Below(3) {
 			if len(b) > 0 {
-				b[d.below(min(len(b), 1+d.below(100)))] = byte(d.next())
+				b[d.Below(min(len(b), 1+d.Below(100)))] = byte(d.Next())
 			}
 		}
-		if d.below(4) == 0 {
-			b = d.text(d.below(40))
+		if d.Below(4) == 0 {
+			b = d.Text(d.Below(40))
 		}
 		got, e := Decode(frame.Frame{Word: theWords[kind], Data: b})
 		if e == api.OK {
@@ -498,12 +409,12 @@ func TestDecodeOfAnyBytes(t *testing.T) {
 
 // P9.2 and P9.3: what is encoded comes through layer 8 and is decoded again.
 func TestThroughFrames(t *testing.T) {
-	d := dice(11)
+	d := sample.Dice(11)
 	var list []Msg
 	for kind := 1; kind <= 10; kind++ {
-		list = append(list, d.everything(kind))
+		list = append(list, everything(&d, kind))
 	}
-	list = append(list, Msg{Kind: Inv, Names: d.ids(64)}, Msg{Kind: Headers, Heads: d.headers(32)}, Msg{Kind: Block, Block: d.full(t, 8192)})
+	list = append(list, Msg{Kind: Inv, Names: d.IDs(64)}, Msg{Kind: Headers, Heads: d.Headers(32)}, Msg{Kind: Block, Block: full(t, &d, 8192)})
 	b, e := All(list...)
 	if e != api.OK {
 		t.Fatal(e)
@@ -522,12 +433,12 @@ func TestThroughFrames(t *testing.T) {
 
 // P9.4
 func TestAll(t *testing.T) {
-	d := dice(12)
+	d := sample.Dice(12)
 	for n := range 12 {
 		var list []Msg
 		var want []byte
 		for range n {
-			m := d.everything(1 + d.below(10))
+			m := everything(&d, 1+d.Below(10))
 			list = append(list, m)
 			want = append(want, whole(m)...)
 		}
@@ -539,9 +450,9 @@ func TestAll(t *testing.T) {
 
 // P9.4: the first error is told, and nothing is answered beside it.
 func TestAllOfWrongOnes(t *testing.T) {
-	d := dice(13)
+	d := sample.Dice(13)
 	right, none := Msg{Kind: Ping, Nonce: 5}, Msg{Kind: 11}
-	long := Msg{Kind: Inv, Names: d.ids(65)}
+	long := Msg{Kind: Inv, Names: d.IDs(65)}
 	for _, x := range []struct {
 		list []Msg
 		want api.Errno
@@ -554,7 +465,7 @@ func TestAllOfWrongOnes(t *testing.T) {
 		{[]Msg{right, long, right, none}, api.ErrLong},
 		{[]Msg{right, right, none, long}, api.ErrKind},
 		{[]Msg{right, right, right, long}, api.ErrLong},
-		{[]Msg{{Kind: Block, Block: d.full(t, 8193)}, none}, api.ErrLong},
+		{[]Msg{{Kind: Block, Block: full(t, &d, 8193)}, none}, api.ErrLong},
 	} {
 		if got, e := All(x.list...); e != x.want || len(got) != 0 {
 			t.Errorf("All of %d: %v, %d bytes, want %v", len(x.list), e, len(got), x.want)
@@ -562,34 +473,22 @@ func TestAllOfWrongOnes(t *testing.T) {
 	}
 }
 
-// change goes over all that a list has, its spare room too.
-func change[T any](list []T, to T) {
-	wide := list[:cap(list)]
-	for i := range wide {
-		wide[i] = to
-	}
-}
-
 func changeMsg(m Msg) {
-	change(m.Names, api.ID{0xee})
-	change(m.Heads, api.Header{Version: 0xee})
+	sample.Change(m.Names, api.ID{0xee})
+	sample.Change(m.Heads, api.Header{Version: 0xee})
 	for _, t := range m.Block.Txs {
-		for _, in := range t.Ins {
-			change(in.Key, 0xee)
-		}
-		change(t.Ins, api.In{Key: []byte("other")})
-		change(t.Outs, api.Out{Amount: 77})
+		sample.ChangeTx(t)
 	}
-	change(m.Block.Txs, api.Tx{})
+	sample.Change(m.Block.Txs, api.Tx{})
 }
 
 // P2: what is handed in isn't changed, nor its spare room.
 func TestArgumentsStay(t *testing.T) {
 	for kind := 1; kind <= 10; kind++ {
-		d, again := dice(14), dice(14)
-		m, kept := d.everything(kind), again.everything(kind)
-		m.Names, kept.Names = append(m.Names, d.ids(5)...), append(kept.Names, again.ids(5)...)
-		m.Heads, kept.Heads = append(m.Heads, d.headers(5)...), append(kept.Heads, again.headers(5)...)
+		d, again := sample.Dice(14), sample.Dice(14)
+		m, kept := everything(&d, kind), everything(&again, kind)
+		m.Names, kept.Names = append(m.Names, d.IDs(5)...), append(kept.Names, again.IDs(5)...)
+		m.Heads, kept.Heads = append(m.Heads, d.Headers(5)...), append(kept.Heads, again.Headers(5)...)
 		m.Names, m.Heads = m.Names[:3], m.Heads[:2]
 		list := []Msg{m, m, {Kind: 77}}
 		Encode(m)
@@ -598,7 +497,7 @@ func TestArgumentsStay(t *testing.T) {
 		if !same(m, kept) || list[2].Kind != 77 || !same(list[0], list[1]) {
 			t.Errorf("a %s that was handed in has changed", theWords[kind])
 		}
-		room := append(laid(of(m)), d.text(50)...)
+		room := append(laid(of(m)), d.Text(50)...)
 		before := slices.Clone(room)
 		Decode(frame.Frame{Word: theWords[kind], Data: room[:len(room)-50]})
 		if !bytes.Equal(room, before) {
@@ -609,23 +508,23 @@ func TestArgumentsStay(t *testing.T) {
 
 // P2: what is answered shares nothing with what was handed in, nor with other answers.
 func TestAnswersAreNew(t *testing.T) {
-	d := dice(15)
+	d := sample.Dice(15)
 	for kind := 1; kind <= 10; kind++ {
-		m := d.everything(kind)
+		m := everything(&d, kind)
 		want, data := whole(m), laid(m)
 		one, _ := Encode(m)
 		two, _ := All(m)
-		change(one, 0xee)
+		sample.Change(one, 0xee)
 		if !bytes.Equal(two, want) {
 			t.Errorf("two answers of a %s share something", theWords[kind])
 		}
-		change(two, 0xee)
+		sample.Change(two, 0xee)
 		encoded(t, "what was encoded", m)
 
 		room := slices.Clone(data)
 		first, _ := Decode(frame.Frame{Word: theWords[kind], Data: room})
 		second, _ := Decode(frame.Frame{Word: theWords[kind], Data: room})
-		change(room, 0xee)
+		sample.Change(room, 0xee)
 		if !same(first, of(m)) {
 			t.Errorf("a %s shares with the data that it was read from", theWords[kind])
 		}

@@ -3,105 +3,14 @@ package tx
 import (
 	"bytes"
 	"crypto/sha256"
-	"encoding/binary"
 	"math"
 	"reflect"
 	"slices"
 	"testing"
 
 	"tallystick/api"
+	"tallystick/sample"
 )
-
-// dice has numbers that are the same in every run.
-type dice uint32
-
-func (d *dice) next() int {
-	*d = *d*1664525 + 1013904223
-	return int(*d >> 8)
-}
-
-func (d *dice) below(n int) int { return d.next() % n }
-
-func (d *dice) text(n int) []byte {
-	b := make([]byte, n)
-	for i := range b {
-		b[i] = byte(d.next())
-	}
-	return b
-}
-
-func (d *dice) id() api.ID { return api.ID(d.text(32)) }
-
-// makeTx is a transaction with so many inputs and outputs, of which no two are the same.
-func (d *dice) makeTx(ins, outs, key int) api.Tx {
-	var t api.Tx
-	for range ins {
-		t.Ins = append(t.Ins, api.In{Point: api.Point{Tx: d.id(), Index: uint32(d.next())<<8 | 5}, Key: d.text(key)})
-	}
-	for range outs {
-		t.Outs = append(t.Outs, api.Out{Amount: int64(d.next())<<40 | int64(d.next()), Lock: d.id()})
-	}
-	return t
-}
-
-func (d *dice) makeHeader() api.Header {
-	return api.Header{Version: uint32(d.next()), Prev: d.id(), Root: d.id(), Time: uint32(d.next()), Bits: uint32(d.next()), Nonce: uint32(d.next())}
-}
-
-// makeBlock is a block of so many transactions, each of an input and an output, whose bytes are 80.
-func (d *dice) makeBlock(txs int) api.Block {
-	b := api.Block{Header: d.makeHeader()}
-	for range txs {
-		b.Txs = append(b.Txs, d.makeTx(1, 1, 1))
-	}
-	return b
-}
-
-// counted is the shortest form of a number.
-func counted(n int) []byte {
-	switch {
-	case n <= 252:
-		return []byte{byte(n)}
-	case n <= 65535:
-		return binary.LittleEndian.AppendUint16([]byte{253}, uint16(n))
-	}
-	return binary.LittleEndian.AppendUint32([]byte{254}, uint32(n))
-}
-
-// laid is a transaction's bytes, by the standard's calls.
-func laid(t api.Tx) []byte {
-	b := counted(len(t.Ins))
-	for _, in := range t.Ins {
-		b = append(b, in.Point.Tx[:]...)
-		b = binary.LittleEndian.AppendUint32(b, in.Point.Index)
-		b = append(b, counted(len(in.Key))...)
-		b = append(b, in.Key...)
-	}
-	b = append(b, counted(len(t.Outs))...)
-	for _, out := range t.Outs {
-		b = binary.LittleEndian.AppendUint64(b, uint64(out.Amount))
-		b = append(b, out.Lock[:]...)
-	}
-	return b
-}
-
-func laidHeader(h api.Header) []byte {
-	b := binary.LittleEndian.AppendUint32(nil, h.Version)
-	b = append(b, h.Prev[:]...)
-	b = append(b, h.Root[:]...)
-	for _, n := range []uint32{h.Time, h.Bits, h.Nonce} {
-		b = binary.LittleEndian.AppendUint32(b, n)
-	}
-	return b
-}
-
-func laidBlock(block api.Block) []byte {
-	b := append(laidHeader(block.Header), counted(len(block.Txs))...)
-	for _, t := range block.Txs {
-		b = append(b, laid(t)...)
-	}
-	return b
-}
 
 func twice(b []byte) api.ID {
 	once := sha256.Sum256(b)
@@ -164,17 +73,17 @@ func TestBytesOfTheDocument(t *testing.T) {
 
 // P7.1: of what can't be read, too.
 func TestBytesOfMany(t *testing.T) {
-	d := dice(1)
+	d := sample.Dice(1)
 	for _, n := range []int{0, 1, 2, 32, 33, 252, 253, 254, 300, 65535, 65536} {
-		for _, x := range []api.Tx{d.makeTx(n, 1, 2), d.makeTx(1, n, 2), d.makeTx(1, 1, n)} {
-			if !bytes.Equal(Bytes(x), laid(x)) {
+		for _, x := range []api.Tx{d.Tx(n, 1, 2), d.Tx(1, n, 2), d.Tx(1, 1, n)} {
+			if !bytes.Equal(Bytes(x), sample.TxBytes(x)) {
 				t.Errorf("Bytes of %d inputs, %d outputs", len(x.Ins), len(x.Outs))
 			}
 		}
 	}
 	for _, amount := range []int64{0, 1, -1, 255, 256, 1 << 32, 1 << 50, math.MaxInt64, math.MinInt64, math.MinInt64 + 1} {
 		x := api.Tx{Outs: []api.Out{{Amount: amount}}}
-		if !bytes.Equal(Bytes(x), laid(x)) {
+		if !bytes.Equal(Bytes(x), sample.TxBytes(x)) {
 			t.Errorf("Bytes of an amount of %d: %x", amount, Bytes(x))
 		}
 	}
@@ -182,10 +91,10 @@ func TestBytesOfMany(t *testing.T) {
 
 // P7.1
 func TestID(t *testing.T) {
-	d := dice(2)
+	d := sample.Dice(2)
 	seen := map[api.ID]bool{}
-	for _, x := range []api.Tx{{}, d.makeTx(1, 1, 1), d.makeTx(3, 2, 0), d.makeTx(32, 32, 100), d.makeTx(40, 260, 300)} {
-		if ID(x) != twice(laid(x)) || seen[ID(x)] {
+	for _, x := range []api.Tx{{}, d.Tx(1, 1, 1), d.Tx(3, 2, 0), d.Tx(32, 32, 100), d.Tx(40, 260, 300)} {
+		if ID(x) != twice(sample.TxBytes(x)) || seen[ID(x)] {
 			t.Errorf("ID of %d inputs, %d outputs: %x", len(x.Ins), len(x.Outs), ID(x))
 		}
 		seen[ID(x)] = true
@@ -194,16 +103,16 @@ func TestID(t *testing.T) {
 
 // P7.2
 func TestRead(t *testing.T) {
-	d := dice(3)
+	d := sample.Dice(3)
 	list := []api.Tx{{}, {Outs: []api.Out{{Amount: math.MinInt64}, {Amount: -1}, {Amount: math.MaxInt64}}}}
 	for _, n := range []int{0, 1, 2, 31, 32} {
-		list = append(list, d.makeTx(n, 1, 3), d.makeTx(1, n, 3), d.makeTx(n, n, 0))
+		list = append(list, d.Tx(n, 1, 3), d.Tx(1, n, 3), d.Tx(n, n, 0))
 	}
 	for _, key := range []int{0, 1, 2, 99, 100} {
-		list = append(list, d.makeTx(1, 1, key), d.makeTx(32, 32, key))
+		list = append(list, d.Tx(1, 1, key), d.Tx(32, 32, key))
 	}
 	for _, x := range list {
-		if got, e := Read(laid(x)); e != api.OK || !sameTx(got, x) {
+		if got, e := Read(sample.TxBytes(x)); e != api.OK || !sameTx(got, x) {
 			t.Errorf("Read of %d inputs, %d outputs: %v, %v", len(x.Ins), len(x.Outs), got, e)
 		}
 	}
@@ -211,24 +120,24 @@ func TestRead(t *testing.T) {
 
 // P7.2
 func TestReadOfTooMany(t *testing.T) {
-	d := dice(4)
+	d := sample.Dice(4)
 	for _, n := range []int{33, 34, 252, 253, 65536} {
-		refused(t, "too many inputs", laid(d.makeTx(n, 1, 1)), api.ErrLong)
-		refused(t, "too many outputs", laid(d.makeTx(1, n, 1)), api.ErrLong)
-		refused(t, "too many of both", laid(d.makeTx(n, n, 1)), api.ErrLong)
+		refused(t, "too many inputs", sample.TxBytes(d.Tx(n, 1, 1)), api.ErrLong)
+		refused(t, "too many outputs", sample.TxBytes(d.Tx(1, n, 1)), api.ErrLong)
+		refused(t, "too many of both", sample.TxBytes(d.Tx(n, n, 1)), api.ErrLong)
 	}
 	for _, key := range []int{101, 102, 252, 253, 65536} {
-		refused(t, "a key that is too long", laid(d.makeTx(1, 1, key)), api.ErrLong)
-		last := d.makeTx(3, 1, 100)
-		last.Ins[2].Key = d.text(key)
-		refused(t, "a last key that is too long", laid(last), api.ErrLong)
+		refused(t, "a key that is too long", sample.TxBytes(d.Tx(1, 1, key)), api.ErrLong)
+		last := d.Tx(3, 1, 100)
+		last.Ins[2].Key = d.Text(key)
+		refused(t, "a last key that is too long", sample.TxBytes(last), api.ErrLong)
 	}
 }
 
 // P7.2: that a count is too great is told ahead of what is missing behind it.
 func TestReadInOrder(t *testing.T) {
-	d := dice(5)
-	in, key := d.text(36), d.text(100)
+	d := sample.Dice(5)
+	in, key := d.Text(36), d.Text(100)
 	whole := slices.Concat([]byte{1}, in, []byte{0})
 	for what, x := range map[string]struct {
 		b    []byte
@@ -257,9 +166,9 @@ func TestReadInOrder(t *testing.T) {
 
 // P7.2: bytes that end too soon, or too late.
 func TestReadOfOtherLengths(t *testing.T) {
-	d := dice(6)
-	for _, x := range []api.Tx{{}, d.makeTx(1, 1, 1), d.makeTx(2, 3, 0), d.makeTx(3, 0, 100), d.makeTx(0, 2, 0)} {
-		b := laid(x)
+	d := sample.Dice(6)
+	for _, x := range []api.Tx{{}, d.Tx(1, 1, 1), d.Tx(2, 3, 0), d.Tx(3, 0, 100), d.Tx(0, 2, 0)} {
+		b := sample.TxBytes(x)
 		for cut := range b {
 			refused(t, "what is cut", b[:cut], api.ErrShort)
 		}
@@ -273,20 +182,20 @@ func TestReadOfOtherLengths(t *testing.T) {
 
 // P7.2 and P1: any bytes are those of the transaction that they are, or refused.
 func TestReadOfAnyBytes(t *testing.T) {
-	d := dice(7)
+	d := sample.Dice(7)
 	ok := 0
 	for range 20000 {
-		b := laid(d.makeTx(d.below(3), d.below(3), d.below(4)))
-		for range d.below(3) {
-			b[d.below(len(b))] = byte(d.next())
+		b := sample.TxBytes(d.Tx(d.Below(3), d.Below(3), d.Below(4)))
+		for range d.Below(3) {
+			b[d.Below(len(b))] = byte(d.Next())
 		}
-		if d.below(4) == 0 {
-			b = d.text(d.below(12))
+		if d.Below(4) == 0 {
+			b = d.Text(d.Below(12))
 		}
 		x, e := Read(b)
 		if e == api.OK {
 			ok++
-			if !bytes.Equal(laid(x), b) {
+			if !bytes.Equal(sample.TxBytes(x), b) {
 				t.Fatalf("%x is read as %v", b, x)
 			}
 		} else if !slices.Contains([]api.Errno{api.ErrShort, api.ErrLong, api.ErrForm}, e) || !reflect.DeepEqual(x, api.Tx{}) {
@@ -300,16 +209,16 @@ func TestReadOfAnyBytes(t *testing.T) {
 
 // P7.3
 func TestBlock(t *testing.T) {
-	d := dice(8)
+	d := sample.Dice(8)
 	for _, n := range []int{0, 1, 2, 31, 32, 33, 252, 253, 300} {
-		b := d.makeBlock(n)
-		if got := Block(b); !bytes.Equal(got, laidBlock(b)) {
+		b := d.Block(n, 1)
+		if got := Block(b); !bytes.Equal(got, sample.BlockBytes(b)) {
 			t.Errorf("Block of %d transactions: %x", n, got)
 		}
 	}
-	b := d.makeBlock(2)
+	b := d.Block(2, 1)
 	got := Block(b)
-	if len(got) != 80+1+2*80 || got[80] != 2 || !bytes.Equal(got[:80], laidHeader(b.Header)) || !bytes.Equal(got[81:161], laid(b.Txs[0])) || !bytes.Equal(got[161:], laid(b.Txs[1])) {
+	if len(got) != 80+1+2*80 || got[80] != 2 || !bytes.Equal(got[:80], sample.HeaderBytes(b.Header)) || !bytes.Equal(got[81:161], sample.TxBytes(b.Txs[0])) || !bytes.Equal(got[161:], sample.TxBytes(b.Txs[1])) {
 		t.Errorf("Block of two: %x", got)
 	}
 	if got := Block(api.Block{}); !bytes.Equal(got, make([]byte, 81)) {
@@ -319,14 +228,14 @@ func TestBlock(t *testing.T) {
 
 // P7.3
 func TestReadBlock(t *testing.T) {
-	d := dice(9)
+	d := sample.Dice(9)
 	list := []api.Block{{}}
 	for _, n := range []int{0, 1, 2, 31, 32} {
-		list = append(list, d.makeBlock(n))
+		list = append(list, d.Block(n, 1))
 	}
-	list = append(list, api.Block{Header: d.makeHeader(), Txs: []api.Tx{d.makeTx(32, 32, 100), {}, d.makeTx(0, 1, 0), d.makeTx(1, 0, 100)}})
+	list = append(list, api.Block{Header: d.Header(), Txs: []api.Tx{d.Tx(32, 32, 100), {}, d.Tx(0, 1, 0), d.Tx(1, 0, 100)}})
 	for _, b := range list {
-		if got, e := ReadBlock(laidBlock(b)); e != api.OK || !sameBlock(got, b) {
+		if got, e := ReadBlock(sample.BlockBytes(b)); e != api.OK || !sameBlock(got, b) {
 			t.Errorf("ReadBlock of %d transactions: %v, %v", len(b.Txs), got, e)
 		}
 	}
@@ -334,31 +243,31 @@ func TestReadBlock(t *testing.T) {
 
 // P7.3
 func TestReadBlockOfTooMany(t *testing.T) {
-	d := dice(10)
-	refusedBlock(t, "33 transactions", laidBlock(d.makeBlock(33)), api.ErrLong)
-	refusedBlock(t, "100 transactions", laidBlock(d.makeBlock(100)), api.ErrLong)
-	h := laidHeader(d.makeHeader())
+	d := sample.Dice(10)
+	refusedBlock(t, "33 transactions", sample.BlockBytes(d.Block(33, 1)), api.ErrLong)
+	refusedBlock(t, "100 transactions", sample.BlockBytes(d.Block(100, 1)), api.ErrLong)
+	h := sample.HeaderBytes(d.Header())
 	refusedBlock(t, "33 that aren't there", append(slices.Clone(h), 33), api.ErrLong)
 	refusedBlock(t, "32 that aren't there", append(slices.Clone(h), 32), api.ErrShort)
 	refusedBlock(t, "a count in another form", append(slices.Clone(h), 253, 0, 0), api.ErrForm)
-	for _, wrong := range []api.Tx{d.makeTx(33, 1, 0), d.makeTx(1, 33, 0), d.makeTx(1, 1, 101)} {
-		b := d.makeBlock(3)
+	for _, wrong := range []api.Tx{d.Tx(33, 1, 0), d.Tx(1, 33, 0), d.Tx(1, 1, 101)} {
+		b := d.Block(3, 1)
 		b.Txs[1] = wrong
-		refusedBlock(t, "a transaction that is too long", laidBlock(b), api.ErrLong)
+		refusedBlock(t, "a transaction that is too long", sample.BlockBytes(b), api.ErrLong)
 	}
 }
 
 // full is a block of 32 transactions that has just 8192 bytes.
 func full(t *testing.T) api.Block {
 	t.Helper()
-	d := dice(11)
-	b := d.makeBlock(32)
+	d := sample.Dice(11)
+	b := d.Block(32, 1)
 	for i := range b.Txs {
-		b.Txs[i] = d.makeTx(2, 2, 48) // 252 bytes
+		b.Txs[i] = d.Tx(2, 2, 48) // 252 bytes
 	}
-	b.Txs[0].Ins[0].Key = d.text(48 + 8192 - 81 - 32*252)
-	if len(laidBlock(b)) != 8192 {
-		t.Fatalf("the sample has %d bytes", len(laidBlock(b)))
+	b.Txs[0].Ins[0].Key = d.Text(48 + 8192 - 81 - 32*252)
+	if len(sample.BlockBytes(b)) != 8192 {
+		t.Fatalf("the sample has %d bytes", len(sample.BlockBytes(b)))
 	}
 	return b
 }
@@ -366,7 +275,7 @@ func full(t *testing.T) api.Block {
 // P7.3: that there are too many bytes is told first.
 func TestReadBlockOfMostBytes(t *testing.T) {
 	b := full(t)
-	whole := laidBlock(b)
+	whole := sample.BlockBytes(b)
 	if got, e := ReadBlock(whole); e != api.OK || !sameBlock(got, b) {
 		t.Errorf("ReadBlock of 8192 bytes: %v", e)
 	}
@@ -376,7 +285,7 @@ func TestReadBlockOfMostBytes(t *testing.T) {
 	longer.Txs = slices.Clone(b.Txs)
 	longer.Txs[1].Ins = slices.Clone(b.Txs[1].Ins)
 	longer.Txs[1].Ins[0].Key = make([]byte, 49)
-	refusedBlock(t, "a right block of 8193 bytes", laidBlock(longer), api.ErrLong)
+	refusedBlock(t, "a right block of 8193 bytes", sample.BlockBytes(longer), api.ErrLong)
 	if n := len(Block(longer)); n != 8193 {
 		t.Errorf("Block of more than can be read: %d bytes", n)
 	}
@@ -386,16 +295,16 @@ func TestReadBlockOfMostBytes(t *testing.T) {
 	for _, n := range []int{8193, 8194, 1 << 20} {
 		refusedBlock(t, "too many bytes", make([]byte, n), api.ErrLong)
 	}
-	other := append(laidHeader(b.Header), 253, 0, 0)
+	other := append(sample.HeaderBytes(b.Header), 253, 0, 0)
 	refusedBlock(t, "another form in too many bytes", append(other, make([]byte, 8193-len(other))...), api.ErrLong)
 	refusedBlock(t, "another form in 8192 bytes", append(other, make([]byte, 8192-len(other))...), api.ErrForm)
 }
 
 // P7.3
 func TestReadBlockOfOtherLengths(t *testing.T) {
-	d := dice(12)
+	d := sample.Dice(12)
 	for _, n := range []int{0, 1, 2} {
-		b := laidBlock(d.makeBlock(n))
+		b := sample.BlockBytes(d.Block(n, 1))
 		for cut := range b {
 			refusedBlock(t, "what is cut", b[:cut], api.ErrShort)
 		}
@@ -407,17 +316,17 @@ func TestReadBlockOfOtherLengths(t *testing.T) {
 
 // P7.3 and P1
 func TestReadBlockOfAnyBytes(t *testing.T) {
-	d := dice(13)
+	d := sample.Dice(13)
 	ok := 0
 	for range 5000 {
-		b := laidBlock(d.makeBlock(d.below(4)))
-		for range d.below(4) {
-			b[d.below(len(b))] = byte(d.next())
+		b := sample.BlockBytes(d.Block(d.Below(4), 1))
+		for range d.Below(4) {
+			b[d.Below(len(b))] = byte(d.Next())
 		}
 		x, e := ReadBlock(b)
 		if e == api.OK {
 			ok++
-			if !bytes.Equal(laidBlock(x), b) {
+			if !bytes.Equal(sample.BlockBytes(x), b) {
 				t.Fatalf("%x is read as %v", b, x)
 			}
 		} else if !reflect.DeepEqual(x, api.Block{}) {
@@ -433,9 +342,9 @@ func pair(a, b api.ID) api.ID { return twice(slices.Concat(a[:], b[:])) }
 
 // P7.4
 func TestRoot(t *testing.T) {
-	d := dice(14)
-	a, b, c := d.makeTx(1, 1, 1), d.makeTx(2, 1, 7), d.makeTx(40, 1, 200)
-	x, y, z := twice(laid(a)), twice(laid(b)), twice(laid(c))
+	d := sample.Dice(14)
+	a, b, c := d.Tx(1, 1, 1), d.Tx(2, 1, 7), d.Tx(40, 1, 200)
+	x, y, z := twice(sample.TxBytes(a)), twice(sample.TxBytes(b)), twice(sample.TxBytes(c))
 	for _, given := range []struct {
 		list []api.Tx
 		want api.ID
@@ -459,38 +368,22 @@ func TestRoot(t *testing.T) {
 	}
 }
 
-// change goes over all that a list has, its spare room too.
-func change[T any](list []T, to T) {
-	wide := list[:cap(list)]
-	for i := range wide {
-		wide[i] = to
-	}
-}
-
-func changeTx(x api.Tx) {
-	for _, in := range x.Ins {
-		change(in.Key, 0xee)
-	}
-	change(x.Ins, api.In{Key: []byte("other")})
-	change(x.Outs, api.Out{Amount: 77})
-}
-
 // P2: what is handed in isn't changed.
 func TestArgumentsStay(t *testing.T) {
-	d := dice(15)
-	b := d.makeBlock(5)
-	b.Txs = append(b.Txs, d.makeTx(3, 3, 10))
-	before, head := laidBlock(b), b.Header
+	d := sample.Dice(15)
+	b := d.Block(5, 1)
+	b.Txs = append(b.Txs, d.Tx(3, 3, 10))
+	before, head := sample.BlockBytes(b), b.Header
 	Block(b)
 	Root(b.Txs...)
 	for _, x := range b.Txs {
 		Bytes(x)
 		ID(x)
 	}
-	if b.Header != head || !bytes.Equal(laidBlock(b), before) {
+	if b.Header != head || !bytes.Equal(sample.BlockBytes(b), before) {
 		t.Error("a block that was handed in has changed")
 	}
-	room := append(slices.Clone(before), d.text(50)...)
+	room := append(slices.Clone(before), d.Text(50)...)
 	kept := slices.Clone(room)
 	ReadBlock(room[:len(before)])
 	Read(room[81:161])
@@ -501,49 +394,49 @@ func TestArgumentsStay(t *testing.T) {
 
 // P2: what is answered shares nothing with what was handed in, nor with other answers, nor with itself.
 func TestAnswersAreNew(t *testing.T) {
-	d := dice(16)
-	b := d.makeBlock(4)
-	b.Txs = append(b.Txs, d.makeTx(3, 3, 10))
-	laidOut, last := laidBlock(b), laid(b.Txs[4])
+	d := sample.Dice(16)
+	b := d.Block(4, 1)
+	b.Txs = append(b.Txs, d.Tx(3, 3, 10))
+	laidOut, last := sample.BlockBytes(b), sample.TxBytes(b.Txs[4])
 	one, two := Block(b), Bytes(b.Txs[4])
-	change(one, 0xee)
-	change(two, 0xee)
-	if !bytes.Equal(laidBlock(b), laidOut) || !bytes.Equal(Block(b), laidOut) || !bytes.Equal(Bytes(b.Txs[4]), last) {
+	sample.Change(one, 0xee)
+	sample.Change(two, 0xee)
+	if !bytes.Equal(sample.BlockBytes(b), laidOut) || !bytes.Equal(Block(b), laidOut) || !bytes.Equal(Bytes(b.Txs[4]), last) {
 		t.Error("bytes that are answered are somebody else's")
 	}
 
 	room := slices.Clone(laidOut)
 	read, _ := ReadBlock(room)
 	other, _ := ReadBlock(room)
-	change(room, 0xee)
-	if !bytes.Equal(laidBlock(read), laidOut) {
+	sample.Change(room, 0xee)
+	if !bytes.Equal(sample.BlockBytes(read), laidOut) {
 		t.Error("a block shares with the bytes that it was read from")
 	}
 	for i, x := range read.Txs {
-		changeTx(x)
+		sample.ChangeTx(x)
 		for _, y := range read.Txs[i+1:] {
 			if !slices.ContainsFunc(b.Txs, func(z api.Tx) bool { return sameTx(y, z) }) {
 				t.Error("transactions of one block share something")
 			}
 		}
 	}
-	change(read.Txs, api.Tx{})
-	if !bytes.Equal(laidBlock(other), laidOut) {
+	sample.Change(read.Txs, api.Tx{})
+	if !bytes.Equal(sample.BlockBytes(other), laidOut) {
 		t.Error("two blocks share something")
 	}
 
 	room = slices.Clone(last)
 	first, _ := Read(room)
 	second, _ := Read(room)
-	change(room, 0xee)
+	sample.Change(room, 0xee)
 	if !sameTx(first, b.Txs[4]) {
 		t.Error("a transaction shares with the bytes that it was read from")
 	}
-	change(first.Ins[0].Key, 0xee)
+	sample.Change(first.Ins[0].Key, 0xee)
 	if !bytes.Equal(first.Ins[1].Key, b.Txs[4].Ins[1].Key) {
 		t.Error("two keys share their memory")
 	}
-	changeTx(first)
+	sample.ChangeTx(first)
 	if !sameTx(second, b.Txs[4]) {
 		t.Error("two transactions share something")
 	}

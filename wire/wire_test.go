@@ -7,25 +7,13 @@ import (
 	"testing"
 
 	"tallystick/api"
+	"tallystick/sample"
 )
 
-// dice has numbers that are the same in every run.
-type dice uint32
-
-func (d *dice) next() int {
-	*d = *d*1664525 + 1013904223
-	return int(*d >> 8)
-}
-
-func (d *dice) below(n int) int { return d.next() % n }
-
+// text is n bytes, which are the same in every run.
 func text(n int) []byte {
-	d := dice(n + 5)
-	b := make([]byte, n)
-	for i := range b {
-		b[i] = byte(d.next())
-	}
-	return b
+	d := sample.Dice(n + 5)
+	return d.Text(n)
 }
 
 // counted is a number in the form with so many bytes behind a sign (0: without one), be there a shorter one or not.
@@ -382,26 +370,26 @@ func TestEndAhead(t *testing.T) {
 
 // P6.1 to P6.3: what was written is read.
 func TestWrittenIsRead(t *testing.T) {
-	d := dice(3)
+	d := sample.Dice(3)
 	for range 300 {
 		var w Writer
 		var reads []func(r *Reader) bool
-		for range d.below(30) {
-			switch d.below(4) {
+		for range d.Below(30) {
+			switch d.Below(4) {
 			case 0:
-				n, size := uint64(d.next())*uint64(d.next()), d.below(9)
+				n, size := uint64(d.Next())*uint64(d.Next()), d.Below(9)
 				w.Put(size, n)
 				reads = append(reads, func(r *Reader) bool { return r.Num(size) == n&(1<<(8*size)-1) })
 			case 1:
-				n := counts[d.below(len(counts))]
+				n := counts[d.Below(len(counts))]
 				w.Count(n)
 				reads = append(reads, func(r *Reader) bool { return r.Count(n) == n })
 			case 2:
-				b := text(d.below(40))
+				b := text(d.Below(40))
 				w.Text(b)
 				reads = append(reads, func(r *Reader) bool { return bytes.Equal(r.Text(len(b)), b) })
 			case 3:
-				id := api.ID(text(32 + d.below(9))[:32])
+				id := api.ID(text(32 + d.Below(9))[:32])
 				w.Raw(id[:9], id[9:])
 				reads = append(reads, func(r *Reader) bool { return r.ID() == id })
 			}
@@ -418,21 +406,21 @@ func TestWrittenIsRead(t *testing.T) {
 
 // P1 and P6.4: any bytes, any calls: an error is there as soon as a call answers nothing for something, and stays.
 func TestAnyCalls(t *testing.T) {
-	d := dice(11)
+	d := sample.Dice(11)
 	odd := []int{math.MinInt, -1, 0, 1, 2, 3, 8, 9, 40, math.MaxInt}
 	for range 3000 {
-		b := text(d.below(60))
+		b := text(d.Below(60))
 		for i := range b {
-			if d.below(3) == 0 {
-				b[i] = byte(250 + d.below(6))
+			if d.Below(3) == 0 {
+				b[i] = byte(250 + d.Below(6))
 			}
 		}
 		r := Read(b)
 		for range 12 {
 			err, rest := r.Err(), r.Left()
-			n := odd[d.below(len(odd))]
+			n := odd[d.Below(len(odd))]
 			var answered int
-			switch d.below(5) {
+			switch d.Below(5) {
 			case 0:
 				answered = len(r.Raw(n))
 			case 1:
