@@ -15,15 +15,10 @@ import (
 )
 
 const (
-	easy   = 0x207fffff // about every second header is proved
+	easy   = sample.Easy
 	harder = 0x207ffffe // a little less than that
 	late   = math.MaxInt64
 )
-
-// rules whose bits change every so many headers.
-func rules(every int) api.Rules {
-	return api.Rules{Limit: easy, Every: every, Spacing: 10, Subsidy: 50, Work: 3, Genesis: api.Block{Header: api.Header{Version: 1, Time: 100000, Bits: easy}}}
-}
 
 func planted(t *testing.T, r api.Rules) *Tree {
 	t.Helper()
@@ -42,8 +37,8 @@ func named(h api.Header) api.ID {
 // mined is a header behind which work stands.
 func mined(t *testing.T, h api.Header) api.Header {
 	t.Helper()
-	m, ok := head.Mine(h, easy, 1<<16)
-	if !ok {
+	m := sample.Mined(h)
+	if m == (api.Header{}) {
 		t.Fatalf("no nonce for the bits %08x", h.Bits)
 	}
 	return m
@@ -85,7 +80,7 @@ func grownAt(t *testing.T, tree *Tree, i int, time, mark uint32) int {
 // forked is a tree of eight: 0 1 2 3 in a row, 4 5 behind 1, 6 behind 5, 7 behind 0.
 func forked(t *testing.T) *Tree {
 	t.Helper()
-	tree := planted(t, rules(0))
+	tree := planted(t, sample.Rules(0))
 	for mark, parent := range []int{0, 1, 2, 1, 4, 5, 0} {
 		grown(t, tree, parent, uint32(mark))
 	}
@@ -185,7 +180,7 @@ func TestCheck(t *testing.T) {
 		"a genesis of anything":       {func(r *api.Rules) { r.Genesis.Version, r.Genesis.Prev, r.Genesis.Time = 7, api.ID{8}, 0 }, api.OK},
 		"a genesis of no right block": {func(r *api.Rules) { r.Genesis.Txs = make([]api.Tx, 50) }, api.OK},
 	} {
-		r := rules(0)
+		r := sample.Rules(0)
 		x.change(&r)
 		if e := Check(r); e != x.want {
 			t.Errorf("Check of %s: %v, want %v", what, e, x.want)
@@ -202,7 +197,7 @@ func TestNew(t *testing.T) {
 		limit uint32
 		work  num.Num
 	}{{easy, num.Of(2)}, {0x1d00ffff, num.Of(0x100010001)}, {0x01010000, num.Num{0, 0, 0, 1 << 63}}, {0x2100ffff, num.Of(1)}} {
-		r := rules(0)
+		r := sample.Rules(0)
 		h := api.Header{Version: 9, Prev: api.ID{1}, Root: api.ID{2}, Time: 3, Bits: x.limit, Nonce: 4}
 		r.Limit, r.Genesis.Header = x.limit, h
 		if x.limit == easy {
@@ -222,7 +217,7 @@ func TestNew(t *testing.T) {
 
 // blocks has rules whose genesis has transactions.
 func blocks(seed sample.Dice) api.Rules {
-	r := rules(0)
+	r := sample.Rules(0)
 	r.Genesis.Txs = seed.Block(3, 20).Txs
 	return r
 }
@@ -240,7 +235,7 @@ func changeRules(r api.Rules) {
 
 // P10.1
 func TestRules(t *testing.T) {
-	for _, r := range []api.Rules{rules(0), rules(7), blocks(1), {Limit: 0x1d00ffff, Every: 1000, Spacing: 1 << 20, Subsidy: 1 << 50, Work: 1000, Genesis: api.Block{Header: api.Header{Version: 1, Prev: api.ID{2}, Root: api.ID{3}, Time: 4, Bits: 0x1d00ffff, Nonce: 6}, Txs: []api.Tx{{}, {Ins: []api.In{{}}}}}}} {
+	for _, r := range []api.Rules{sample.Rules(0), sample.Rules(7), blocks(1), {Limit: 0x1d00ffff, Every: 1000, Spacing: 1 << 20, Subsidy: 1 << 50, Work: 1000, Genesis: api.Block{Header: api.Header{Version: 1, Prev: api.ID{2}, Root: api.ID{3}, Time: 4, Bits: 0x1d00ffff, Nonce: 6}, Txs: []api.Tx{{}, {Ins: []api.In{{}}}}}}} {
 		if got := planted(t, r).Rules(); !sameRules(got, r) {
 			t.Errorf("Rules: %+v, want %+v", got, r)
 		}
@@ -365,7 +360,7 @@ func TestAncestorOfNone(t *testing.T) {
 // row is a tree of headers one behind the other, so many seconds behind the genesis.
 func row(t *testing.T, every int, times ...uint32) *Tree {
 	t.Helper()
-	tree := planted(t, rules(every))
+	tree := planted(t, sample.Rules(every))
 	for i, time := range times {
 		grownAt(t, tree, i, 100000+time, 1)
 	}
@@ -400,7 +395,7 @@ func TestMedian(t *testing.T) {
 
 // P10.3: of the way to it alone.
 func TestMedianOfForks(t *testing.T) {
-	tree := planted(t, rules(0))
+	tree := planted(t, sample.Rules(0))
 	one := grownAt(t, tree, 0, 100010, 1)
 	other := grownAt(t, tree, 0, 100900, 2)
 	both := []int{grownAt(t, tree, one, 100020, 1), grownAt(t, tree, other, 101000, 1)}
@@ -411,7 +406,7 @@ func TestMedianOfForks(t *testing.T) {
 
 // P10.3: times are compared as numbers from 0 to 2^32 - 1.
 func TestMedianOfGreatTimes(t *testing.T) {
-	r := rules(0)
+	r := sample.Rules(0)
 	r.Genesis.Time = 5
 	tree := planted(t, r)
 	last := grownAt(t, tree, grownAt(t, tree, 0, 1<<31+5, 1), math.MaxUint32, 1)
@@ -462,7 +457,7 @@ func TestNextByItsRules(t *testing.T) {
 		limit          uint32
 		every, spacing int
 	}{{easy, 2, 1}, {easy, 1, 1}, {easy, 3, 1 << 20}, {0x1d00ffff, 1, 1 << 20}, {0x2100ffff, 1, 100}, {0x01010000, 1, 10}, {0x01030000, 1, 4}} {
-		r := rules(x.every)
+		r := sample.Rules(x.every)
 		r.Limit, r.Genesis.Bits, r.Spacing = x.limit, x.limit, x.spacing
 		tree := planted(t, r)
 		if x.every > 1 {
@@ -481,7 +476,7 @@ func TestNextByItsRules(t *testing.T) {
 
 // P10.3: a target of which nothing is left has no bits, and nothing stands behind it.
 func TestNextOfNothing(t *testing.T) {
-	r := rules(1)
+	r := sample.Rules(1)
 	r.Limit, r.Genesis.Bits = 0x01010000, 0x01010000
 	tree := planted(t, r)
 	if got := tree.Next(0); got != 0 {
@@ -536,7 +531,7 @@ func TestFitsOfOldOnes(t *testing.T) {
 			fits(t, "a time", tree, behind(t, tree, parent, time, 5), parent, late, want)
 		}
 	}
-	r := rules(0)
+	r := sample.Rules(0)
 	r.Genesis.Time = math.MaxUint32
 	tree = planted(t, r)
 	fits(t, "one behind the last second", tree, behind(t, tree, 0, 0, 5), 0, late, api.ErrOld)
@@ -544,7 +539,7 @@ func TestFitsOfOldOnes(t *testing.T) {
 
 // P10.4: its time less Ahead isn't above now.
 func TestFitsOfLaterOnes(t *testing.T) {
-	r := rules(0)
+	r := sample.Rules(0)
 	r.Genesis.Time = 0
 	tree := planted(t, r)
 	for _, time := range []uint32{1, 7199, 7200, 7201, 100000, 1<<31 - 1, 1 << 31, math.MaxUint32} {
@@ -598,7 +593,7 @@ func TestAdd(t *testing.T) {
 
 // P10.4: a genesis behind which no work stands is there, too.
 func TestAddOfTheGenesis(t *testing.T) {
-	r := rules(0)
+	r := sample.Rules(0)
 	r.Genesis.Header = unproved(t, r.Genesis.Header)
 	tree := planted(t, r)
 	added(t, "the genesis", tree, r.Genesis.Header, late, 0, api.ErrTwice)
@@ -710,7 +705,7 @@ func TestAddBehindWhatFailed(t *testing.T) {
 
 // P10.4, P10.2 and P10.5: a tree that is full, and as high as may be.
 func TestFull(t *testing.T) {
-	tree := planted(t, rules(0))
+	tree := planted(t, sample.Rules(0))
 	tip := 0
 	for tree.Len() < 1<<14 {
 		last := tree.Get(tip)
@@ -900,8 +895,8 @@ func (p *plain) any(d *sample.Dice) (api.Header, int64) {
 func TestAny(t *testing.T) {
 	for seed, every := range []int{0, 2, 3, 4, 7, 1000} {
 		d := sample.Dice(seed)
-		tree := planted(t, rules(every))
-		p := &plain{rules: rules(every), heads: []api.Header{rules(every).Genesis.Header}, parents: []int{-1}, failed: []bool{false}}
+		tree := planted(t, sample.Rules(every))
+		p := &plain{rules: sample.Rules(every), heads: []api.Header{sample.Rules(every).Genesis.Header}, parents: []int{-1}, failed: []bool{false}}
 		told := map[api.Errno]int{}
 		for range 400 {
 			if d.Below(80) == 0 {
@@ -935,7 +930,7 @@ func TestAny(t *testing.T) {
 func TestAnyArguments(t *testing.T) {
 	numbers := []int{math.MinInt, -1 << 32, -2, -1, 0, 1, 7, 8, 1 << 14, 1 << 32, math.MaxInt}
 	for _, every := range []int{0, 1, 2, 1000} {
-		tree := planted(t, rules(every))
+		tree := planted(t, sample.Rules(every))
 		for _, a := range numbers {
 			tree.Get(a)
 			tree.Median(a)
@@ -958,14 +953,14 @@ func TestAnyArguments(t *testing.T) {
 			t.Errorf("%d headers", tree.Len())
 		}
 	}
-	if n := planted(t, rules(0)).Median(5) + planted(t, rules(1)).Next(-1); n != 0 {
+	if n := planted(t, sample.Rules(0)).Median(5) + planted(t, sample.Rules(1)).Next(-1); n != 0 {
 		t.Errorf("Median and Next of none: %d", n)
 	}
 }
 
 // P2: trees are apart, by the same rules too, and what is called on them alone counts.
 func TestTreesAreApart(t *testing.T) {
-	one, two, three := forked(t), forked(t), planted(t, rules(0))
+	one, two, three := forked(t), forked(t), planted(t, sample.Rules(0))
 	if !slices.Equal(all(one), all(two)) {
 		t.Error("the same calls have made unlike trees")
 	}

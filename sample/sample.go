@@ -1,4 +1,4 @@
-// Package sample has what the layers' tests are made of: numbers that are the same in every run, transactions and blocks of them, and their bytes, laid by none of the layers that are tried.
+// Package sample has what the layers' tests are made of: numbers that are the same in every run, transactions and blocks of them, their bytes, laid by none of the layers that are tried, and headers behind which work stands.
 package sample
 
 import "tallystick/api"

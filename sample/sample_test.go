@@ -7,6 +7,7 @@ import (
 	"testing"
 
 	"tallystick/api"
+	"tallystick/head"
 )
 
 func TestDice(t *testing.T) {
@@ -74,5 +75,25 @@ func TestChange(t *testing.T) {
 	ChangeTx(x)
 	if string(key) != "\xee\xee\xee" || bytes.Equal(TxBytes(x), TxBytes(y.Tx(2, 2, 3))) {
 		t.Error("a transaction that was changed is the same")
+	}
+}
+
+func TestBehind(t *testing.T) {
+	r := Rules(7)
+	first := r.Genesis.Header
+	one, other := Behind(first, 1), Behind(first, 2)
+	if r.Every != 7 || r.Limit != first.Bits || one == other {
+		t.Errorf("%+v, and behind its genesis %+v and %+v", r, one, other)
+	}
+	for _, h := range []api.Header{one, other, Behind(one, 1)} {
+		if head.Proved(h, Easy) != api.OK || h.Bits != Easy || h.Time <= first.Time {
+			t.Errorf("a header behind one: %+v", h)
+		}
+	}
+	if one.Prev != head.ID(first) || Behind(one, 1).Prev != head.ID(one) {
+		t.Error("headers that are behind others")
+	}
+	if got := Mined(api.Header{}); got != (api.Header{}) {
+		t.Errorf("without bits: %+v", got)
 	}
 }
