@@ -116,8 +116,7 @@ func (p *plain) size() int {
 	if p.phase == Over {
 		return 0
 	}
-	left := max(len(p.kept(Count))-len(p.kept(Again)), 0)
-	return left + len(p.came[Again]) - p.told
+	return len(p.kept(Count)) + len(p.came[Again]) - p.told
 }
 
 func (p *plain) compare(t *testing.T, s *Sync) {

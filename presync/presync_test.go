@@ -287,7 +287,11 @@ func TestStarts(t *testing.T) {
 			t.Errorf("behind %d: the work of eight blocks isn't enough: phase %d", start, s.Phase())
 		}
 		takes(t, s, false, list, list)
-		stands(t, s, Done, 0, list[len(list)-1])
+		marked := 0
+		if start < 4 { // then the one at the height 4 is behind it
+			marked = 1
+		}
+		stands(t, s, Done, marked, list[len(list)-1])
 		over(t, New(tree, start, api.ID{}), true, api.ErrOrphan, list[1:]...)
 	}
 }
@@ -303,7 +307,7 @@ func TestEnoughAhead(t *testing.T) {
 		takes(t, s, true, list, nil)
 		stands(t, s, Again, 1, tree.Get(4).Header)
 		takes(t, s, true, list, list[:1])
-		stands(t, s, Done, 0, list[0])
+		stands(t, s, Done, 1, list[0])
 	}
 }
 
@@ -493,7 +497,7 @@ func TestPassedOver(t *testing.T) {
 			takes(t, s, more, told, nil)
 			stands(t, s, Again, 1, g)
 			takes(t, s, more, told, list[:3])
-			stands(t, s, Done, 0, list[2])
+			stands(t, s, Done, 1, list[2])
 		}
 	}
 }
@@ -514,10 +518,10 @@ func TestOneByOne(t *testing.T) {
 			want = list[k-8 : k-7]
 		}
 		takes(t, s, true, []api.Header{h}, want)
-		stands(t, s, Again, 8-(k+3)/4+min(k+1, 8), h)
+		stands(t, s, Again, 8+min(k+1, 8), h)
 	}
 	takes(t, s, true, list[29:], list[21:])
-	stands(t, s, Done, 0, list[29])
+	stands(t, s, Done, 8, list[29])
 }
 
 // P15.5: eight wait, the ninth lets the first go.
@@ -527,11 +531,35 @@ func TestWaiting(t *testing.T) {
 		list := row(tree.Get(0).Header, 40, 1)
 		s := counted(t, tree, api.ID{}, list...)
 		takes(t, s, true, list[:c.many], list[:c.told])
-		if want := 10 - c.many/4 + min(c.many, 8); s.Size() != want {
+		if want := 10 + min(c.many, 8); s.Size() != want {
 			t.Errorf("behind %d: Size %d, want %d", c.many, s.Size(), want)
 		}
 		takes(t, s, true, nil, nil)
 		takes(t, s, true, list[c.many:], list[c.told:])
+		stands(t, s, Done, 10, list[39])
+	}
+}
+
+// P15.4 and P15.5: a bit that was held against a header is remembered on, when it is Done, too; an error alone ends that.
+func TestRemembered(t *testing.T) {
+	tree := planted(t, rules(0, 21), 0)
+	list := row(tree.Get(0).Header, 20, 1)
+	for first := range byte(4) {
+		for many := range 20 {
+			done, broken := counted(t, tree, api.ID{first}, list...), counted(t, tree, api.ID{first}, list...)
+			for _, s := range []*Sync{done, broken} {
+				takes(t, s, true, list[:many], list[:max(many-8, 0)])
+				if want := 5 + min(many, 8); s.Size() != want {
+					t.Errorf("behind %d: Size %d, want %d", many, s.Size(), want)
+				}
+			}
+			takes(t, done, false, list[many:], list[max(many-8, 0):])
+			for range 2 {
+				stands(t, done, Done, 5, list[19])
+				takes(t, done, true, list, nil)
+			}
+			over(t, broken, true, api.ErrOrphan, api.Header{})
+		}
 	}
 }
 
@@ -660,11 +688,11 @@ func TestMoreAgain(t *testing.T) {
 			t.Errorf("Size %d", s.Size())
 		}
 		takes(t, s, true, many[:4], nil)
-		stands(t, s, Again, 4, many[3])
+		stands(t, s, Again, 1+4, many[3])
 		takes(t, s, true, many[4:36], many[:28])
-		stands(t, s, Again, 8, many[35])
+		stands(t, s, Again, 1+8, many[35])
 		takes(t, s, false, many[36:], many[28:])
-		stands(t, s, Done, 0, many[36])
+		stands(t, s, Done, 1, many[36])
 	}
 }
 
@@ -678,11 +706,9 @@ func TestFewerAgain(t *testing.T) {
 	s := counted(t, tree, salt, many...)
 	stands(t, s, Again, 9, r.Genesis.Header)
 	takes(t, s, true, few[:3], nil)
-	stands(t, s, Again, 12, few[2])
+	stands(t, s, Again, 9+3, few[2])
 	takes(t, s, false, few[3:], few)
-	if s.Phase() != Done || s.Last() != head.ID(few[3]) {
-		t.Errorf("phase %d", s.Phase())
-	}
+	stands(t, s, Done, 9, few[3])
 	takes(t, s, true, many, nil)
 }
 
@@ -697,7 +723,7 @@ func TestMaxBits(t *testing.T) {
 	takes(t, s, false, list[1026:1027], nil)
 	stands(t, s, Again, 256, tree.Get(0).Header)
 	takes(t, s, false, list, list[:1027])
-	stands(t, s, Done, 0, list[1026])
+	stands(t, s, Done, 256, list[1026])
 
 	for _, need := range []uint64{2 * 1029, 2 * 1030} { // the one for which there is no room would be enough, or not
 		s = New(tree, 0, api.ID{})
@@ -723,7 +749,7 @@ func TestMostWork(t *testing.T) {
 	takes(t, s, true, list[998:], nil)
 	stands(t, s, Again, 250, tree.Get(0).Header)
 	takes(t, s, false, list, list)
-	stands(t, s, Done, 0, list[998])
+	stands(t, s, Done, 250, list[998])
 }
 
 // P2: what is handed in is neither changed nor kept.
