@@ -5,6 +5,7 @@ import (
 	"testing"
 
 	"tallystick/api"
+	"tallystick/crowd"
 	"tallystick/honest"
 	"tallystick/msg"
 	"tallystick/sample"
@@ -71,7 +72,7 @@ func TestGiveHeads(t *testing.T) {
 // P20.5: headers that aren't followed aren't answered, and don't count as names.
 func TestGiveHeadsOfTheWay(t *testing.T) {
 	n, id, blocks := served(t, 20)
-	side := behind(n.Chain().Rules(), blocks, 12, 20, 2)
+	side := crowd.Behind(n.Chain().Rules(), blocks, 12, 20, 2)
 	all, other := ids(blocks...), ids(side...)
 	hears(t, "a better way", n, says(id, heads(side[13:]...)))
 	does(t, "names of it", n, says(id, getHeads(other[32], other[20], all[15], all[5])), to(id, heads(blocks[16:]...))...)
@@ -107,7 +108,7 @@ func TestGiveBlocks(t *testing.T) {
 // P20.5: only blocks of the way that is followed.
 func TestGiveBlocksOfTheWay(t *testing.T) {
 	n, id, blocks := served(t, 20)
-	side := behind(n.Chain().Rules(), blocks, 12, 10, 2)
+	side := crowd.Behind(n.Chain().Rules(), blocks, 12, 10, 2)
 	all, other := ids(blocks...), ids(side...)
 	hears(t, "a better way", n, says(id, heads(side[13:]...)))
 	does(t, "one whose block isn't there", n, says(id, getData(other[13], all[13])), slices.Concat(blocksOf(id, blocks[13]), to(id, notFound(other[13])))...)
@@ -141,7 +142,7 @@ func TestInv(t *testing.T) {
 		does(t, "it is asked", n, says(id, inv(names...)))
 		does(t, "no headers", n, says(id, empty))
 	}
-	more := behind(n.Chain().Rules(), blocks, 5, 3, 1)
+	more := crowd.Behind(n.Chain().Rules(), blocks, 5, 3, 1)
 	hears(t, "headers without blocks", n, says(id, heads(more[6:]...)))
 	does(t, "their names", n, says(id, inv(ids(more...)...)))
 	scores(t, n, id, 0)
@@ -212,7 +213,7 @@ func TestAskBlocks(t *testing.T) {
 func TestNoMoreWork(t *testing.T) {
 	n, id, blocks := served(t, 20)
 	r := n.Chain().Rules()
-	short, even, long := behind(r, blocks, 5, 10, 2), behind(r, blocks, 5, 15, 3), behind(r, blocks, 5, 16, 4)
+	short, even, long := crowd.Behind(r, blocks, 5, 10, 2), crowd.Behind(r, blocks, 5, 15, 3), crowd.Behind(r, blocks, 5, 16, 4)
 	does(t, "a way with less work", n, says(id, heads(short[6:]...)))
 	does(t, "one with as much", n, says(id, heads(even[6:]...)))
 	does(t, "one with more", n, says(id, heads(long[6:]...)), to(id, getData(ids(long[6:]...)...))...)
@@ -227,7 +228,7 @@ func TestBlockPassedOver(t *testing.T) {
 	all := ids(blocks...)
 	wrong := blocks[3]
 	wrong.Txs = wrong.Txs[:0]
-	for _, b := range []api.Block{blocks[1], blocks[16], wrong, blocks[0], {}, behind(n.Chain().Rules(), blocks, 20, 1, 1)[21]} {
+	for _, b := range []api.Block{blocks[1], blocks[16], wrong, blocks[0], {}, crowd.Behind(n.Chain().Rules(), blocks, 20, 1, 1)[21]} {
 		does(t, "a block of another one", n, says(2, block(b)))
 	}
 	scores(t, n, 2, 0)
@@ -252,9 +253,9 @@ func TestWrongBlock(t *testing.T) {
 	does(t, "other transactions", n, says(1, block(wrong)), to(2, getData(all[1:13]...))...)
 	scores(t, n, 1, -1)
 	banned(t, n, 0, true)
-	for i, x := range wrongs() {
+	for i, x := range crowd.Wrongs() {
 		r := honest.Rules(0)
-		way := behind(r, honest.Chain(r, 5, 1), 5, 10, 2, x)
+		way := crowd.Behind(r, honest.Chain(r, 5, 1), 5, 10, 2, x)
 		n := fresh(t, r)
 		one, two := greet(t, n, 1), greet(t, n, 2)
 		n.Step(says(one, heads(way[1:]...)))
@@ -302,7 +303,7 @@ func TestTell(t *testing.T) {
 	does(t, "one that isn't ready", n, says(2, block(blocks[4])))
 	does(t, "two blocks, and what is asked", n, says(2, block(blocks[2]), getHeads(all[0]), block(blocks[3])), slices.Concat(
 		to(1, inv(all[2])), to(5, inv(all[2])), to(2, heads(blocks[1:3]...)), to(1, inv(all[4])), to(5, inv(all[4])))...)
-	does(t, "the rest, and something wrong", n, Event{Kind: Data, Peer: 2, Data: append(laid(block(blocks[5]), block(blocks[6])), "junk"...)})
+	does(t, "the rest, and something wrong", n, Event{Kind: Data, Peer: 2, Data: append(crowd.Laid(block(blocks[5]), block(blocks[6])), "junk"...)})
 	scores(t, n, 2, -1)
 	follows(t, n, blocks[4])
 }
@@ -310,7 +311,7 @@ func TestTell(t *testing.T) {
 // P20.6: a way that isn't the best any more isn't told of, and another one is, by its last block alone.
 func TestTellOfAnotherWay(t *testing.T) {
 	n, id, blocks := served(t, 8)
-	side := behind(n.Chain().Rules(), blocks, 2, 9, 2)
+	side := crowd.Behind(n.Chain().Rules(), blocks, 2, 9, 2)
 	hears(t, "another way", n, says(id, heads(side[3:]...)))
 	does(t, "all but three", n, says(id, blockList(side[4:9]...)...))
 	follows(t, n, blocks[8])
@@ -334,7 +335,7 @@ func slow(t *testing.T) (*Node, []api.Block) {
 	peers(t, n, 2, 3)
 	flights(t, n, 2, 16)
 	flights(t, n, 3, 0)
-	more := behind(n.Chain().Rules(), blocks, 40, 3, 1)
+	more := crowd.Behind(n.Chain().Rules(), blocks, 40, 3, 1)
 	n.Step(says(3, heads(more[41:]...)))
 	flights(t, n, 3, 3)
 	return n, blocks
@@ -381,7 +382,7 @@ func TestNoTickPasses(t *testing.T) {
 // P20.6: a block that failed while it was asked for isn't blamed.
 func TestBlockThatFailed(t *testing.T) {
 	r := honest.Rules(0)
-	way := behind(r, honest.Chain(r, 5, 1), 5, 40, 2, wrongs()[0])
+	way := crowd.Behind(r, honest.Chain(r, 5, 1), 5, 40, 2, crowd.Wrongs()[0])
 	n := fresh(t, r)
 	one, two := greet(t, n, 1), greet(t, n, 2)
 	n.Step(says(one, heads(way[1:31]...)))
@@ -400,7 +401,7 @@ func TestBlockThatFailed(t *testing.T) {
 // P20.6: nor does it make the limit smaller.
 func TestBlockThatFailedIsOnlyFreed(t *testing.T) {
 	r := honest.Rules(0)
-	way := behind(r, honest.Chain(r, 5, 1), 5, 40, 2, wrongs()[0])
+	way := crowd.Behind(r, honest.Chain(r, 5, 1), 5, 40, 2, crowd.Wrongs()[0])
 	n := fresh(t, r)
 	for i := range 3 {
 		greet(t, n, i)

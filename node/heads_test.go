@@ -6,6 +6,7 @@ import (
 	"testing"
 
 	"tallystick/api"
+	"tallystick/crowd"
 	"tallystick/head"
 	"tallystick/honest"
 	"tallystick/index"
@@ -92,7 +93,7 @@ func TestFirstQuestion(t *testing.T) {
 func TestFirstQuestionBehindTheBest(t *testing.T) {
 	r := honest.Rules(0)
 	blocks := honest.Chain(r, 30, 1)
-	wrong := behind(r, blocks, 10, 25, 2, wrongs()[0])
+	wrong := crowd.Behind(r, blocks, 10, 25, 2, crowd.Wrongs()[0])
 	n := fresh(t, r)
 	serve(t, n, 1, blocks[:21]...)
 	greet(t, n, 2)
@@ -110,8 +111,8 @@ func TestFirstQuestionBehindTheBest(t *testing.T) {
 func TestBest(t *testing.T) {
 	r := honest.Rules(0)
 	blocks := honest.Chain(r, 30, 1)
-	short := behind(r, blocks, 5, 10, 2)
-	long := behind(r, blocks, 5, 25, 3)
+	short := crowd.Behind(r, blocks, 5, 10, 2)
+	long := crowd.Behind(r, blocks, 5, 25, 3)
 	n := fresh(t, r)
 	serve(t, n, 1, blocks...)
 	id := greet(t, n, 2)
@@ -260,7 +261,7 @@ func TestNeed(t *testing.T) {
 	serve(t, n, 1, blocks[:31]...)
 	id := greet(t, n, 2)
 	for at := 10; at < 31; at++ {
-		side := behind(r, blocks, at, 3, 2)
+		side := crowd.Behind(r, blocks, at, 3, 2)
 		before := n.Chain().Len()
 		hears(t, "a side way", n, says(id, heads(side[at+1:]...)))
 		switch {
@@ -381,7 +382,7 @@ func TestNotAdded(t *testing.T) {
 		scores(t, n, 1, x.score)
 		banned(t, n, 1, x.score < 0)
 	}
-	wrong := behind(r, blocks, 3, 20, 2, wrongs()[0])
+	wrong := crowd.Behind(r, blocks, 3, 20, 2, crowd.Wrongs()[0])
 	n := fresh(t, r)
 	serve(t, n, 1, wrong[:10]...)
 	banned(t, n, 1, true)
@@ -435,7 +436,7 @@ func TestTwice(t *testing.T) {
 func TestTwiceBehindAParent(t *testing.T) {
 	r := honest.Rules(70)
 	blocks := honest.Chain(r, 100, 1)
-	side := behind(r, blocks, 20, 80, 2)
+	side := crowd.Behind(r, blocks, 20, 80, 2)
 	n := fresh(t, r)
 	serve(t, n, 1, blocks...)
 	id := greet(t, n, 2)
@@ -529,7 +530,7 @@ func TestTwiceNotAdded(t *testing.T) {
 func TestSalt(t *testing.T) {
 	r := honest.Rules(43)
 	blocks := honest.Chain(r, 64, 1)
-	other := behind(r, blocks, 32, 32, 2)
+	other := crowd.Behind(r, blocks, 32, 32, 2)
 	tree, _ := index.New(r)
 	sizes, kept := map[int]int{}, 0
 	for k := range 60 {

@@ -7,6 +7,7 @@ import (
 
 	"tallystick/api"
 	"tallystick/chain"
+	"tallystick/crowd"
 	"tallystick/head"
 	"tallystick/honest"
 	"tallystick/msg"
@@ -41,7 +42,9 @@ func does(t *testing.T, what string, n *Node, e Event, want ...Out) {
 }
 
 // says is that a peer says messages.
-func says(id int, list ...msg.Msg) Event { return Event{Kind: Data, Peer: id, Data: laid(list...)} }
+func says(id int, list ...msg.Msg) Event {
+	return Event{Kind: Data, Peer: id, Data: crowd.Laid(list...)}
+}
 
 // comes is that somebody at an address comes, ticks that ticks pass.
 func comes(addr int) Event { return Event{Kind: Connect, Addr: addr} }
@@ -252,7 +255,7 @@ func TestAnyNumbers(t *testing.T) {
 	does(t, "headers", n, says(id, heads(blocks[1:]...)), to(id, getData(ids(blocks[1:]...)...))...)
 	for _, i := range numbers {
 		if i < 1 || i > 5 {
-			does(t, "a kind that there isn't", n, Event{Kind: i, Peer: id, Addr: 1, N: 5, Data: laid(verack), Draw: 9})
+			does(t, "a kind that there isn't", n, Event{Kind: i, Peer: id, Addr: 1, N: 5, Data: crowd.Laid(verack), Draw: 9})
 		}
 		if i != id {
 			does(t, "one who isn't there leaves", n, Event{Kind: Leave, Peer: i})
@@ -290,7 +293,7 @@ func TestAnyBytes(t *testing.T) {
 	for range 1500 {
 		n := fresh(t, r)
 		id := come(t, n, 1)
-		row := laid(version, verack, heads(blocks[1:33]...), inv(d.ID()), getHeads(d.ID()), getData(d.IDs(20)...), block(blocks[1]), notFound(d.ID()))
+		row := crowd.Laid(version, verack, heads(blocks[1:33]...), inv(d.ID()), getHeads(d.ID()), getData(d.IDs(20)...), block(blocks[1]), notFound(d.ID()))
 		for range d.Below(3) {
 			row[d.Below(len(row))] ^= 1 << d.Below(8)
 		}

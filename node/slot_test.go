@@ -5,6 +5,7 @@ import (
 	"slices"
 	"testing"
 
+	"tallystick/crowd"
 	"tallystick/honest"
 	"tallystick/msg"
 )
@@ -236,10 +237,10 @@ func TestGreeting(t *testing.T) {
 	does(t, "their verack", n, says(1, verack), to(1, getHeads(all...))...)
 	does(t, "a ping", n, says(1, ping), to(1, pong)...)
 	come(t, n, 2)
-	row := laid(version, verack)
+	row := crowd.Laid(version, verack)
 	for k := range row {
 		var want []Out
-		if k == len(laid(version))-1 {
+		if k == len(crowd.Laid(version))-1 {
 			want = to(2, verack)
 		}
 		if k == len(row)-1 {

@@ -4,6 +4,7 @@ import (
 	"testing"
 
 	"tallystick/api"
+	"tallystick/crowd"
 	"tallystick/frame"
 	"tallystick/honest"
 	"tallystick/sample"
@@ -23,7 +24,7 @@ func TestMostSize(t *testing.T) {
 	r := honest.Rules(1000)
 	r.Spacing = 1 // so that none is too early
 	blocks := honest.Chain(r, 999, 1)
-	side := behind(r, blocks, 0, 999, 2)
+	side := crowd.Behind(r, blocks, 0, 999, 2)
 	n := fresh(t, r)
 	for i := range 40 {
 		n.Step(junk(come(t, n, i)))
@@ -58,9 +59,9 @@ func TestMostSize(t *testing.T) {
 
 // rogues are what others do, one of them at a time: whoever is asked for something answers it wrongly, or not at all.
 func rogues(r api.Rules, blocks []api.Block) []func(n *Node, o Out) []Event {
-	low := behind(r, blocks, 0, 96, 7)
-	bad := behind(r, blocks, 10, 50, 8, wrongs()[1])
-	worse := behind(r, blocks, 10, 50, 9, wrongs()[0])
+	low := crowd.Behind(r, blocks, 0, 96, 7)
+	bad := crowd.Behind(r, blocks, 10, 50, 8, crowd.Wrongs()[1])
+	worse := crowd.Behind(r, blocks, 10, 50, 9, crowd.Wrongs()[0])
 	likes := func(way []api.Block) func(n *Node, o Out) []Event {
 		model := honest.New(1<<52, way...)
 		return func(n *Node, o Out) []Event { return []Event{says(o.Peer, model.Hear(o.Msg)...)} }
